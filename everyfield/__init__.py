@@ -1,0 +1,1 @@
+"""Everyfield: numbers, matrices, points and lines over every field at once."""

@@ -1,0 +1,84 @@
+"""Tests of where things stand: the interface, the limits of the files, and the README."""
+
+import ast
+import doctest
+import importlib
+import pathlib
+import unittest
+
+ROOT = pathlib.Path(__file__).resolve().parent.parent
+FILES = sorted((ROOT / "everyfield").rglob("*.py"))
+
+# For each file of the interface its functions, and its classes with their methods.
+FUNCTIONS = {
+    "whole": ["common", "combination", "is_prime", "prime_divisors", "checked", "is_zero"],
+}
+CLASSES = {
+    "errors": {
+        "FieldError": [], "BadNumber": [], "BadCharacteristic": [], "BadText": [], "BadRow": [], "UnlikeShapes": [],
+        "NotSquare": [], "NoSolution": [], "NoInverse": [], "BadStep": [], "UnknownName": [], "NameTaken": [],
+        "Contradiction": [], "NothingToUndo": [],
+    },
+    "chars": {
+        "Chars": [
+            "every", "none", "only", "but", "zero_of", "unit_of", "read", "least", "upto", "__init__",
+            "__contains__", "__and__", "__or__", "__sub__", "__invert__", "__eq__", "__bool__", "__str__",
+        ],
+    },
+}
+
+
+class TestInterface(unittest.TestCase):
+    def test_functions_are_defined_in_their_files(self):
+        for module, names in FUNCTIONS.items():
+            home = f"everyfield.{module}"
+            for name in names:
+                self.assertEqual(getattr(importlib.import_module(home), name).__module__, home, name)
+
+    def test_classes_define_their_methods_in_their_files(self):
+        for module, classes in CLASSES.items():
+            home = f"everyfield.{module}"
+            for name, methods in classes.items():
+                found = getattr(importlib.import_module(home), name)
+                self.assertEqual(found.__module__, home, name)
+                self.assertEqual([method for method in methods if method not in vars(found)], [], name)
+
+
+class TestFiles(unittest.TestCase):
+    def test_the_package_holds_python_files_alone(self):
+        others = [path for path in (ROOT / "everyfield").rglob("*")
+                  if path.is_file() and path.suffix != ".py" and path.parent.name != "__pycache__"]
+        self.assertEqual(others, [])
+
+    def test_lines_and_characters(self):
+        for path in FILES:
+            lines = path.read_text(encoding="utf-8").splitlines()
+            self.assertLessEqual(len(lines), 399, path)
+            for number, line in enumerate(lines, start=1):
+                self.assertLessEqual(len(line), 120, (path, number))
+                self.assertEqual([sign for sign in line if not " " <= sign <= "~"], [], (path, number))
+
+    def test_functions_are_short(self):
+        for path in FILES:
+            for node in ast.walk(ast.parse(path.read_text(encoding="utf-8"))):
+                if isinstance(node, ast.FunctionDef):
+                    self.assertLessEqual(node.end_lineno - node.lineno + 1, 40, (path, node.name))
+
+    def test_nothing_is_imported_from_elsewhere(self):
+        for path in FILES:
+            for node in ast.walk(ast.parse(path.read_text(encoding="utf-8"))):
+                self.assertNotIsInstance(node, ast.Import, path)
+                if isinstance(node, ast.ImportFrom):
+                    home = node.module.split(".")[0]
+                    self.assertIn(home, ["everyfield", "math", "heapq", "itertools", "__future__"], path)
+
+
+class TestReadme(unittest.TestCase):
+    def test_its_examples(self):
+        failed, tried = doctest.testfile(str(ROOT / "README.md"), module_relative=False)
+        self.assertEqual(failed, 0)
+        self.assertGreater(tried, 0)
+
+
+if __name__ == "__main__":
+    unittest.main()
