@@ -2,14 +2,10 @@
 
 from everyfield.errors import BadCharacteristic, BadText
 from everyfield.whole import is_prime, prime_divisors
+from everyfield.words import is_number
 
-
-def _is_number(word):
-    """True for one to ten digits without a leading zero; 0 alone is such a number."""
-    # Alone, isdigit would also take digits of other scripts.
-    if not (word.isascii() and word.isdigit()):
-        return False
-    return len(word) <= 10 and (word == "0" or not word.startswith("0"))
+# As many as the greatest number has whose prime divisors the program needs.
+_MOST_DIGITS = 10
 
 
 def _heading(words):
@@ -75,7 +71,7 @@ class Chars:
         words = text.split(" ")
         start = _heading(words)
         for at in range(start, len(words)):
-            if not _is_number(words[at]):
+            if not is_number(words[at], _MOST_DIGITS):
                 raise BadText(at)
         return cls(words[0] == "all", [int(word) for word in words[start:]])
 

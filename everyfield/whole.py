@@ -56,15 +56,60 @@ def prime_divisors(n):
     return found
 
 
-def checked(p):
-    """The integer p itself, if it is 0 or a prime."""
-    if p != 0 and not is_prime(p):
+def checked_prime(p):
+    """The integer p itself, if it is a prime."""
+    if not is_prime(p):
         raise BadCharacteristic(p)
     return p
 
 
+def checked(p):
+    """The integer p itself, if it is 0 or a prime."""
+    if p == 0:
+        return p
+    return checked_prime(p)
+
+
 def is_zero(n, p):
     """True if the integer n is 0 in the characteristic p."""
-    if checked(p) == 0:
-        return n == 0
-    return n % p == 0
+    return remainder(n, checked(p)) == 0
+
+
+def remainder(n, p):
+    """The integer that stands for n in the characteristic p: from 0 to p - 1, or n if p is 0."""
+    # It is asked for so often that callers check p once for many numbers.
+    if p == 0:
+        return n
+    return n % p
+
+
+def reciprocal(n, p):
+    """The integer from 1 to p - 1 whose product with n is 1 modulo the prime p, which does not divide n."""
+    return combination(n, p)[1] % p
+
+
+def common_of(numbers):
+    """The greatest integer that divides all the numbers; 0 if all are 0 or there are none."""
+    found = 0
+    for n in numbers:
+        found = common(found, n)
+    return found
+
+
+def apart(n, other):
+    """The greatest divisor of n, which is not 0, that has no prime divisor in common with the other one."""
+    shared = common(n, other)
+    while shared > 1:
+        n = n // shared
+        shared = common(n, other)
+    return abs(n)
+
+
+def padded(numbers, size):
+    """The numbers as a list, with zeros behind them as far as the size."""
+    return list(numbers) + [0] * (size - len(numbers))
+
+
+def sum_of_products(first, second):
+    """The sum of the products of the items of two equally long lists."""
+    return sum([m * n for m, n in zip(first, second)])

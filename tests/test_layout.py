@@ -1,6 +1,7 @@
 """Tests of where things stand: the interface, the limits of the files, and the README."""
 
 import ast
+import builtins
 import doctest
 import importlib
 import pathlib
@@ -9,9 +10,21 @@ import unittest
 ROOT = pathlib.Path(__file__).resolve().parent.parent
 FILES = sorted((ROOT / "everyfield").rglob("*.py"))
 
+BUILTINS = [
+    "len", "range", "enumerate", "zip", "min", "max", "sum", "abs", "sorted", "reversed", "int", "str", "bool", "list",
+    "tuple", "dict", "set", "isinstance", "ord", "repr", "any", "all", "divmod", "map", "iter", "next", "super", "property",
+    "staticmethod", "classmethod", "ValueError", "KeyError", "NotImplemented",
+]
+
 # For each file of the interface its functions, and its classes with their methods.
 FUNCTIONS = {
     "whole": ["common", "combination", "is_prime", "prime_divisors", "checked", "is_zero"],
+    "poly": ["in_char", "gcd_in", "divided_in", "roots_in", "resultant"],
+    "diagonal": ["diagonal", "shown", "divisors", "undone"],
+    "systems": [
+        "rank", "rank_where", "solvable", "solution", "barring", "kernel", "invertible", "inverse", "solvable_by",
+        "how_many_by",
+    ],
 }
 CLASSES = {
     "errors": {
@@ -23,6 +36,18 @@ CLASSES = {
         "Chars": [
             "every", "none", "only", "but", "zero_of", "unit_of", "read", "least", "upto", "__init__",
             "__contains__", "__and__", "__or__", "__sub__", "__invert__", "__eq__", "__bool__", "__str__",
+        ],
+    },
+    "poly": {
+        "Poly": [
+            "unknown", "whole", "read", "degree", "content", "primitive", "derivative", "__init__", "__add__", "__sub__",
+            "__mul__", "__neg__", "__eq__", "__str__", "__call__",
+        ],
+    },
+    "matrices": {
+        "Matrix": [
+            "unit", "diagonal", "read", "scaled", "transposed", "part", "beside", "determinant", "minors", "times",
+            "__init__", "__add__", "__sub__", "__mul__", "__neg__", "__eq__", "__str__",
         ],
     },
 }
@@ -71,6 +96,14 @@ class TestFiles(unittest.TestCase):
                 if isinstance(node, ast.ImportFrom):
                     home = node.module.split(".")[0]
                     self.assertIn(home, ["everyfield", "math", "heapq", "itertools", "__future__"], path)
+
+
+    def test_only_the_builtins_of_the_language(self):
+        known = vars(builtins)
+        for path in FILES:
+            for node in ast.walk(ast.parse(path.read_text(encoding="utf-8"))):
+                if isinstance(node, ast.Name) and node.id in known:
+                    self.assertIn(node.id, BUILTINS, (path, node.lineno))
 
 
 class TestReadme(unittest.TestCase):

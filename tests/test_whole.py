@@ -3,7 +3,10 @@
 import unittest
 
 from everyfield.errors import BadCharacteristic, BadNumber
-from everyfield.whole import checked, combination, common, is_prime, is_zero, prime_divisors
+from everyfield.whole import (
+    apart, checked, checked_prime, combination, common, common_of, is_prime, is_zero, padded, prime_divisors, reciprocal,
+    remainder, sum_of_products,
+)
 
 LIMIT = 10000000000
 BELOW_LIMIT = [9999999967, 9999999943, 9999999929]
@@ -138,6 +141,46 @@ class TestChecked(unittest.TestCase):
             with self.assertRaises(BadCharacteristic) as caught:
                 checked(p)
             self.assertEqual(caught.exception.p, p)
+
+
+    def test_primes_alone(self):
+        for p in [2, 3, 5, 97, 65537] + BELOW_LIMIT:
+            self.assertEqual(checked_prime(p), p)
+        for p in [0] + NO_CHARACTERISTICS:
+            with self.assertRaises(BadCharacteristic) as caught:
+                checked_prime(p)
+            self.assertEqual(caught.exception.p, p)
+
+
+class TestHelpers(unittest.TestCase):
+    def test_remainder(self):
+        self.assertEqual([remainder(n, 0) for n in (-7, 0, HUGE)], [-7, 0, HUGE])
+        self.assertEqual([remainder(n, 5) for n in (-7, 0, 5, 12, HUGE + 3)], [3, 0, 0, 2, 3])
+
+    def test_reciprocal(self):
+        for p in plain_primes(50) + BELOW_LIMIT:
+            for n in [1, 2, 3, 12, -5, HUGE + 1, p - 1, p + 1]:
+                if n % p != 0:
+                    found = reciprocal(n, p)
+                    self.assertTrue(0 < found < p)
+                    self.assertEqual(found * n % p, 1)
+
+    def test_common_of(self):
+        cases = [([], 0), ((0, 0), 0), ([0, -6], 6), ((12, -18, 8), 2), ([5], 5), ([HUGE * 4, HUGE * 6], HUGE * 2)]
+        for numbers, expected in cases:
+            self.assertEqual(common_of(numbers), expected)
+
+    def test_apart(self):
+        cases = [
+            (12, 2, 3), (12, 0, 1), (-12, 1, 12), (-12, 6, 1), (2 ** 50 * 3 * 7, 14, 3), (5, 25, 1), (1, 0, 1), (35, 12, 35),
+        ]
+        for n, other, expected in cases:
+            self.assertEqual(apart(n, other), expected)
+            self.assertEqual(apart(n, -other), expected)
+
+    def test_padded_and_sum_of_products(self):
+        self.assertEqual([padded([1, 2], 4), padded((1,), 1), padded([], 2)], [[1, 2, 0, 0], [1], [0, 0]])
+        self.assertEqual([sum_of_products([1, 2], (3, -4)), sum_of_products([], [])], [-5, 0])
 
 
 class TestIsZero(unittest.TestCase):

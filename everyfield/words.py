@@ -1,0 +1,16 @@
+"""The whole numbers in a text, written in one way each."""
+
+MOST_DIGITS = 30
+
+
+def is_number(word, most):
+    """True for one to most digits without a leading zero; 0 alone is such a number."""
+    # Alone, isdigit would also take digits of other scripts.
+    if not (word.isascii() and word.isdigit()):
+        return False
+    return len(word) <= most and (word == "0" or not word.startswith("0"))
+
+
+def is_integer(word):
+    """True for an integer as the texts of polynomials and matrices have it."""
+    return word != "-0" and is_number(word.removeprefix("-"), MOST_DIGITS)
