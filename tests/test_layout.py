@@ -97,7 +97,6 @@ class TestFiles(unittest.TestCase):
                     home = node.module.split(".")[0]
                     self.assertIn(home, ["everyfield", "math", "heapq", "itertools", "__future__"], path)
 
-
     def test_only_the_builtins_of_the_language(self):
         known = vars(builtins)
         for path in FILES:

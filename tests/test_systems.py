@@ -249,6 +249,16 @@ class TestSolutionAndBarring(unittest.TestCase):
                         expected = ("UnlikeShapes", {"first": (3, 3), "second": len(b)})
                         self.assertEqual(raised(function, TRIANGLE, b, p=p), expected)
 
+    def test_another_length_beside_a_matrix_that_is_not_square(self):
+        for function in (solution, barring):
+            for rows in ([[1, 2, 3], [4, 5, 6]], [[1, 2]], [[1, 2], [3, 4], [5, 6]]):
+                matrix = Matrix(rows)
+                # The width is no right length either.
+                for b in ([], [1] * matrix.width, [1] * (matrix.height + 1)):
+                    expected = ("UnlikeShapes", {"first": (matrix.height, matrix.width), "second": len(b)})
+                    for p in (0, 2):
+                        self.assertEqual(raised(function, matrix, b, p=p), expected)
+
     def test_arguments_and_answers(self):
         b = [1, 0, 1]
         solution(TRIANGLE, b, p=3)[0].append(5)
