@@ -119,38 +119,49 @@ def _standard(poly, p):
     return found.primitive()
 
 
-def _rest(first, second, p):
-    """The rest of first divided by second in the characteristic p, or a multiple of it."""
-    rest = first
-    while rest.degree() >= second.degree():
-        step = _term(rest.coefficients[-1], rest.degree() - second.degree())
+def parted(first, second, p):
+    """A tuple (by, quotient, rest) for a second polynomial that is not 0 in the characteristic p.
+
+    There by * first is quotient * second + rest, the integer by is not 0, and the degree of rest is the lesser one.
+    """
+    divisor, rest = _reduced(second, p), _reduced(first, p)
+    last = divisor.coefficients[-1]
+    by, quotient = 1, Poly([])
+    while rest.degree() >= divisor.degree():
+        step = _term(rest.coefficients[-1], rest.degree() - divisor.degree())
+        by = remainder(by * last, p)
         # Multiplied instead of divided, as fractions are no whole numbers in the characteristic 0.
-        rest = _standard(rest * Poly.whole(second.coefficients[-1]) - step * second, p)
-    return rest
+        quotient = _reduced(quotient * Poly.whole(last) + step, p)
+        rest = _reduced(rest * Poly.whole(last) - step * divisor, p)
+    return by, quotient, rest
+
+
+def quotient_in(first, second, p):
+    """Of the polynomials whose products with the second one are multiples of the first one, the one as of gcd_in."""
+    return _standard(parted(first, second, p)[1], p)
+
+
+def shared_in(first, second, p):
+    """What gcd_in returns, for p that is checked already."""
+    found, rest = _standard(first, p), _standard(second, p)
+    while rest.coefficients:
+        found, rest = rest, _standard(parted(found, rest, p)[2], p)
+    return found
 
 
 def gcd_in(first, second, p):
     """The greatest common divisor in the characteristic p."""
-    checked(p)
-    found, rest = _standard(first, p), _standard(second, p)
-    while rest.coefficients:
-        found, rest = rest, _rest(found, rest, p)
-    return found
+    return shared_in(first, second, checked(p))
 
 
 def divided_in(first, second, p):
     """The tuple (quotient, rest) of a division in the characteristic p, which is a prime."""
     checked_prime(p)
-    divisor = _reduced(second, p)
-    if not divisor.coefficients:
+    if not _reduced(second, p).coefficients:
         raise NoInverse()
-    by = reciprocal(divisor.coefficients[-1], p)
-    quotient, rest = Poly([]), _reduced(first, p)
-    while rest.degree() >= divisor.degree():
-        step = _term(rest.coefficients[-1] * by, rest.degree() - divisor.degree())
-        quotient = quotient + step
-        rest = _reduced(rest - step * divisor, p)
-    return _reduced(quotient, p), rest
+    by, quotient, rest = parted(first, second, p)
+    back = Poly.whole(reciprocal(by, p))
+    return _reduced(quotient * back, p), _reduced(rest * back, p)
 
 
 def roots_in(poly, p):
@@ -159,7 +170,7 @@ def roots_in(poly, p):
     return [x for x in range(p) if found(x) % p == 0]
 
 
-def _moving_rows(poly, many):
+def moving_rows(poly, many):
     """Many rows with the coefficients from the last one on, each row a place further to the right."""
     backwards = list(poly.coefficients[::-1])
     return [[0] * k + backwards + [0] * (many - 1 - k) for k in range(many)]
@@ -169,7 +180,7 @@ def resultant(first, second):
     """The resultant of two polynomials other than 0."""
     if not first.coefficients or not second.coefficients:
         raise BadNumber(0)
-    rows = _moving_rows(first, second.degree()) + _moving_rows(second, first.degree())
+    rows = moving_rows(first, second.degree()) + moving_rows(second, first.degree())
     # Two constants make a matrix without rows.
     if not rows:
         return 1

@@ -2,6 +2,10 @@
 
 MOST_DIGITS = 30
 
+# Python refuses to write integers of more than 4300 digits at once.
+_BLOCK_DIGITS = 18
+_BLOCK = 1000000000000000000
+
 
 def is_number(word, most):
     """True for one to most digits without a leading zero; 0 alone is such a number."""
@@ -14,3 +18,13 @@ def is_number(word, most):
 def is_integer(word):
     """True for an integer as the texts of polynomials and matrices have it."""
     return word != "-0" and is_number(word.removeprefix("-"), MOST_DIGITS)
+
+
+def written(n):
+    """The decimal digits of an integer of any size."""
+    sign = "-" if n < 0 else ""
+    text, rest = "", abs(n)
+    while rest >= _BLOCK:
+        rest, low = divmod(rest, _BLOCK)
+        text = f"{str(low).zfill(_BLOCK_DIGITS)}{text}"
+    return f"{sign}{rest}{text}"

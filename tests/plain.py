@@ -2,6 +2,7 @@
 
 from itertools import combinations, permutations
 
+from everyfield.chars import Chars
 from everyfield.errors import FieldError
 
 LIMIT_PRIME = 9999999967
@@ -19,6 +20,13 @@ def raised(function, *args, **kwargs):
 
 def is_zero(n, p):
     return n == 0 if p == 0 else n % p == 0
+
+
+def chars_where(test, primes):
+    """The set where test is True, if outside of 0 and the primes it is as in 0."""
+    if test(0):
+        return Chars(True, [p for p in primes if not test(p)])
+    return Chars(False, [p for p in primes if test(p)])
 
 
 def determinant(rows):

@@ -25,6 +25,15 @@ FUNCTIONS = {
         "rank", "rank_where", "solvable", "solution", "barring", "kernel", "invertible", "inverse", "solvable_by",
         "how_many_by",
     ],
+    "matroids": [
+        "independent", "bases", "circuits", "spanned", "exchange", "heaviest", "same_columns", "changes",
+        "never_changes", "bad_square", "dual",
+    ],
+    "unknown": [
+        "somewhere", "how_many_there", "fitting", "least_power", "same_fitting", "witness", "is_witness", "barring",
+        "is_barring",
+    ],
+    "plane": ["cross", "dot", "volume", "normal", "points_of", "points_on"],
 }
 CLASSES = {
     "errors": {
@@ -49,6 +58,16 @@ CLASSES = {
             "unit", "diagonal", "read", "scaled", "transposed", "part", "beside", "determinant", "minors", "times",
             "__init__", "__add__", "__sub__", "__mul__", "__neg__", "__eq__", "__str__",
         ],
+    },
+    "many": {
+        "Many": [
+            "number", "unknown", "names", "degree", "content", "vanishing", "put", "value", "__add__", "__sub__",
+            "__mul__", "__neg__", "__eq__", "__str__",
+        ],
+    },
+    "plane": {
+        "Point": ["whole", "loose", "line_to", "off", "possible", "seen", "__init__", "__eq__"],
+        "Line": ["crossing", "possible", "seen", "__init__", "__eq__"],
     },
 }
 

@@ -4,7 +4,9 @@ import random
 import unittest
 from itertools import product as choices
 
-from plain import LIMIT_PRIME, NO_CHARACTERISTICS, is_zero, primes_of_minors, raised, rank as plain_rank, times
+from plain import (
+    LIMIT_PRIME, NO_CHARACTERISTICS, chars_where, is_zero, primes_of_minors, raised, rank as plain_rank, times,
+)
 
 from everyfield.chars import Chars
 from everyfield.matrices import Matrix
@@ -28,13 +30,6 @@ def beside(rows, b):
 def has_solution(rows, b, p):
     """True if the numbers b do not raise the rank."""
     return plain_rank(rows, p) == plain_rank(beside(rows, b), p)
-
-
-def chars_where(test, primes):
-    """The set where test is True, if outside of 0 and the primes it is as in 0."""
-    if test(0):
-        return Chars(True, [p for p in primes if not test(p)])
-    return Chars(False, [p for p in primes if test(p)])
 
 
 def any_systems(seed, count, most=4):
