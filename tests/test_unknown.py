@@ -295,6 +295,11 @@ class TestLeastPower(unittest.TestCase):
         # These three are 0 at all numbers of the field with 4 numbers, but not at all of the field with 8.
         self.assertEqual(least_power([], [T * T + T, Poly([1, 1, 1])], p=2), 3)
         self.assertEqual(least_power([], [T * T + T, Poly([1, 1, 0, 1]), Poly([1, 0, 1, 1])], p=2), 2)
+        # The product of these three is t^9 - t in the characteristic 3, so all numbers of the field with 9 are left out.
+        cubics = [T * Poly([1, 0, 1]), Poly([-1, 1]) * Poly([2, 1, 1]), Poly([1, 1]) * Poly([2, 2, 1])]
+        self.assertEqual(least_power([], cubics, p=3), 3)
+        self.assertEqual(least_power([], cubics[1:], p=3), 1)
+        self.assertEqual([least_power([], cubics, p=p) for p in (5, 7)], [2, 1])
         self.assertIsNone(least_power([], [ZERO], p=2))
         self.assertIsNone(least_power([], [T, Poly([5, 5])], p=5))
 
