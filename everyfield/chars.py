@@ -129,3 +129,10 @@ class Chars:
         for p in range(2, most + 1):
             if is_prime(p) and p in self:
                 yield p
+
+
+def where_units(numbers):
+    """The set of the characteristics in which none of the integers in a list is 0."""
+    if 0 in numbers:
+        return Chars.none()
+    return Chars(True, [p for n in sorted(set(numbers)) for p in prime_divisors(n)])

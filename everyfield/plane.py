@@ -24,9 +24,14 @@ def volume(first, second, third):
     return dot(cross(first, second), third)
 
 
-def possible_where(triple):
+def content_of(triple):
+    """The integer that is 0 exactly in the characteristics in which the three polynomials are."""
+    return common_of([many.content() for many in triple])
+
+
+def _possible(triple):
     """The set of the characteristics in which the three polynomials are not all 0."""
-    return Chars.unit_of(common_of([many.content() for many in triple]))
+    return Chars.unit_of(content_of(triple))
 
 
 def normal_in(triple, p):
@@ -92,7 +97,7 @@ class Point:
 
     def possible(self):
         """The set of the characteristics in which the coordinates are not all 0 as polynomials."""
-        return possible_where(self.coordinates)
+        return _possible(self.coordinates)
 
     def seen(self, values, *, p):
         """The normal triple of the point for a choice of integers, or None."""
@@ -115,7 +120,7 @@ class Line:
 
     def possible(self):
         """The set of the characteristics in which the coordinates are not all 0 as polynomials."""
-        return possible_where(self.coordinates)
+        return _possible(self.coordinates)
 
     def seen(self, values, *, p):
         """The normal triple of the line for a choice of integers, or None."""

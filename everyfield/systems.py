@@ -4,7 +4,7 @@ All answers come from the diagonal form: with U * matrix * V = D, a system with
 the numbers b is the system D with U * b, whose solutions V turns back.
 """
 
-from everyfield.chars import Chars
+from everyfield.chars import Chars, where_units
 from everyfield.diagonal import diagonal, divisors, on_diagonal
 from everyfield.errors import BadNumber, NoInverse, NoSolution, UnlikeShapes
 from everyfield.matrices import Matrix, check_square, shape_of
@@ -64,18 +64,10 @@ def solvable(matrix, b):
     barred = [apart(n, m) for n, m in zip(numbers, known)]
     left = common_of(known[len(numbers):])
     if left == 0:
-        return _where_units(barred)
+        return where_units(barred)
     for n in barred:
         left = apart(left, n)
     return Chars.zero_of(left)
-
-
-def _where_units(numbers):
-    """The set of the characteristics in which none of the numbers is 0."""
-    found = Chars.every()
-    for n in numbers:
-        found = found & Chars.unit_of(n)
-    return found
 
 
 def _barring_index(known, size, p):

@@ -1,6 +1,7 @@
-"""The whole numbers in a text, written in one way each."""
+"""The words of texts: whole numbers, written in one way each, and names."""
 
 MOST_DIGITS = 30
+MOST_LETTERS = 8
 
 # Python refuses to write integers of more than 4300 digits at once.
 _BLOCK_DIGITS = 18
@@ -18,6 +19,12 @@ def is_number(word, most):
 def is_integer(word):
     """True for an integer as the texts of polynomials and matrices have it."""
     return word != "-0" and is_number(word.removeprefix("-"), MOST_DIGITS)
+
+
+def is_name(word):
+    """True for one to eight letters, small or capital."""
+    # Alone, isalpha would also take letters of other scripts.
+    return word.isascii() and word.isalpha() and len(word) <= MOST_LETTERS
 
 
 def written(n):

@@ -1,6 +1,6 @@
 """What the tests compare the program with: slow and plain, straight from the words of the document."""
 
-from itertools import combinations, permutations
+from itertools import combinations, permutations, product as choices
 
 from everyfield.chars import Chars
 from everyfield.errors import FieldError
@@ -96,3 +96,56 @@ def product(first, second):
 
 def times(rows, vector):
     return [sum(m * n for m, n in zip(row, vector)) for row in rows]
+
+
+class PowerField:
+    """The field with p^k numbers, which are the integers that write remainders of polynomials with the base p."""
+
+    def __init__(self, p, k):
+        self.p, self.k, self.size = p, k, p ** k
+        self.known = [[number // p ** i % p for i in range(k)] for number in range(p ** k)]
+        self.modulus = next(m for m in choices(range(p), repeat=k) if m[0] and self.has_order(m))
+        powers, number = [], 1
+        for _ in range(self.size - 1):
+            powers.append(number)
+            number = self.shifted(number)
+        self.powers, self.logs = powers, {number: at for at, number in enumerate(powers)}
+
+    def digits(self, number):
+        return self.known[number]
+
+    def shifted(self, number):
+        """The number times t."""
+        digits = self.digits(number)
+        shifted = [0] + digits[:-1]
+        return sum((n - digits[-1] * m) % self.p * self.p ** i for i, (n, m) in enumerate(zip(shifted, self.modulus)))
+
+    def has_order(self, modulus):
+        """True if all numbers but 0 are powers of t, so that these remainders form a field."""
+        self.modulus = modulus
+        if self.size == 2:
+            return True
+        number, order = self.shifted(1), 1
+        while number != 1 and order < self.size:
+            number, order = self.shifted(number), order + 1
+        return order == self.size - 1
+
+    def plus(self, a, b):
+        if a == 0 or b == 0:
+            return a or b
+        return sum((m + n) % self.p * self.p ** i for i, (m, n) in enumerate(zip(self.digits(a), self.digits(b))))
+
+    def times(self, a, b):
+        if a == 0 or b == 0:
+            return 0
+        return self.powers[(self.logs[a] + self.logs[b]) % (self.size - 1)]
+
+    def value(self, poly, x):
+        found = 0
+        for n in reversed(poly.coefficients):
+            found = self.plus(self.times(found, x), n % self.p)
+        return found
+
+    def fitting(self, zeros, others):
+        return [x for x in range(self.size)
+                if all(self.value(f, x) == 0 for f in zeros) and all(self.value(f, x) != 0 for f in others)]

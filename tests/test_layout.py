@@ -34,6 +34,7 @@ FUNCTIONS = {
         "is_barring",
     ],
     "plane": ["cross", "dot", "volume", "normal", "points_of", "points_on"],
+    "ruler": ["built"],
 }
 CLASSES = {
     "errors": {
@@ -68,6 +69,18 @@ CLASSES = {
     "plane": {
         "Point": ["whole", "loose", "line_to", "off", "possible", "seen", "__init__", "__eq__"],
         "Line": ["crossing", "possible", "seen", "__init__", "__eq__"],
+    },
+    "drawings": {
+        "Drawing": ["names", "unknowns", "triple", "possible", "always", "holds", "breaking", "__init__"],
+    },
+    "ruler": {
+        "Ruler": ["names", "as_fraction", "possible", "same", "value", "shown", "__init__"],
+    },
+    "reports": {
+        "Book": ["tell", "take_back", "fits", "reports", "named", "verdict", "needless", "best", "__init__"],
+    },
+    "studio": {
+        "Studio": ["add", "see", "undo", "fits", "asks", "text", "seen", "__init__"],
     },
 }
 

@@ -4,7 +4,7 @@ import random
 import unittest
 from itertools import product
 
-from plain import NO_CHARACTERISTICS, divisors_of, is_zero, raised
+from plain import NO_CHARACTERISTICS, PowerField, divisors_of, is_zero, raised
 
 from everyfield.chars import Chars
 from everyfield.poly import Poly, in_char, resultant
@@ -15,59 +15,6 @@ from everyfield.unknown import (
 ZERO, ONE, T = Poly([]), Poly([1]), Poly.unknown()
 SMALL = [0, 2, 3, 5, 7, 11]
 NO_PRIMES = [0, *NO_CHARACTERISTICS]
-
-
-class PowerField:
-    """The field with p^k numbers, which are the integers that write remainders of polynomials with the base p."""
-
-    def __init__(self, p, k):
-        self.p, self.k, self.size = p, k, p ** k
-        self.known = [[number // p ** i % p for i in range(k)] for number in range(p ** k)]
-        self.modulus = next(m for m in product(range(p), repeat=k) if m[0] and self.has_order(m))
-        powers, number = [], 1
-        for _ in range(self.size - 1):
-            powers.append(number)
-            number = self.shifted(number)
-        self.powers, self.logs = powers, {number: at for at, number in enumerate(powers)}
-
-    def digits(self, number):
-        return self.known[number]
-
-    def shifted(self, number):
-        """The number times t."""
-        digits = self.digits(number)
-        shifted = [0] + digits[:-1]
-        return sum((n - digits[-1] * m) % self.p * self.p ** i for i, (n, m) in enumerate(zip(shifted, self.modulus)))
-
-    def has_order(self, modulus):
-        """True if all numbers but 0 are powers of t, so that these remainders form a field."""
-        self.modulus = modulus
-        if self.size == 2:
-            return True
-        number, order = self.shifted(1), 1
-        while number != 1 and order < self.size:
-            number, order = self.shifted(number), order + 1
-        return order == self.size - 1
-
-    def plus(self, a, b):
-        if a == 0 or b == 0:
-            return a or b
-        return sum((m + n) % self.p * self.p ** i for i, (m, n) in enumerate(zip(self.digits(a), self.digits(b))))
-
-    def times(self, a, b):
-        if a == 0 or b == 0:
-            return 0
-        return self.powers[(self.logs[a] + self.logs[b]) % (self.size - 1)]
-
-    def value(self, poly, x):
-        found = 0
-        for n in reversed(poly.coefficients):
-            found = self.plus(self.times(found, x), n % self.p)
-        return found
-
-    def fitting(self, zeros, others):
-        return [x for x in range(self.size)
-                if all(self.value(f, x) == 0 for f in zeros) and all(self.value(f, x) != 0 for f in others)]
 
 
 # In these, all polynomials of degrees up to 3 with coefficients of the remainders have all their roots.
