@@ -1,7 +1,7 @@
 """Sets of characteristics: finitely many primes, or 0 and all primes but finitely many."""
 
 from everyfield.errors import BadCharacteristic, BadText
-from everyfield.whole import is_prime, prime_divisors
+from everyfield.whole import apart, is_prime, prime_divisors
 from everyfield.words import is_number
 
 # As many as the greatest number has whose prime divisors the program needs.
@@ -135,4 +135,10 @@ def where_units(numbers):
     """The set of the characteristics in which none of the integers in a list is 0."""
     if 0 in numbers:
         return Chars.none()
-    return Chars(True, [p for n in sorted(set(numbers)) for p in prime_divisors(n)])
+    primes = []
+    for n in numbers:
+        # Without the primes that are known already, the others are easier to find.
+        for p in primes:
+            n = apart(n, p)
+        primes = primes + prime_divisors(n)
+    return Chars(True, primes)

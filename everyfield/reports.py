@@ -56,7 +56,7 @@ class Book:
         """Adds the report that the characteristic is in the set, or that it is not."""
         if name != "" and self._index_of(name) is not None:
             raise NameTaken(name)
-        sets = [*self._sets(), told(found, holds)]
+        sets = [*self._parts(), told(found, holds)]
         if not in_all(sets):
             raise Contradiction(clash_of(Chars.every(), sets))
         self._reports.append((found, holds, name))
@@ -67,7 +67,7 @@ class Book:
             raise NothingToUndo()
         self._reports.pop()
 
-    def _sets(self):
+    def _parts(self):
         """For each report the set of the characteristics that fit it."""
         return [told(found, holds) for found, holds, _ in self._reports]
 
@@ -80,7 +80,7 @@ class Book:
 
     def fits(self):
         """The set of the characteristics that fit all reports."""
-        return in_all(self._sets())
+        return in_all(self._parts())
 
     def reports(self):
         """The list of the reports in order, as tuples (found, holds, name)."""
@@ -100,7 +100,7 @@ class Book:
 
     def needless(self):
         """The ascending list of the reports each of which alone changes nothing of what fits."""
-        sets = self._sets()
+        sets = self._parts()
         fits = in_all(sets)
         return [at for at in range(len(sets)) if in_all(sets[:at] + sets[at + 1:]) == fits]
 

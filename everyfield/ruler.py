@@ -207,9 +207,9 @@ class Ruler:
 
 def _numbered(rows, rest):
     """The rows with one more, which gives the next name to what the rest says, as a tuple (rows, name)."""
-    at = len(rows)
     # Two letters are enough for all steps, and unlike zero and one.
-    name = f"{_LETTERS[at // len(_LETTERS)]}{_LETTERS[at % len(_LETTERS)]}"
+    first, second = divmod(len(rows), len(_LETTERS))
+    name = f"{_LETTERS[first]}{_LETTERS[second]}"
     word, *names = rest
     return [*rows, " ".join([word, name, *names])], name
 

@@ -193,6 +193,7 @@ class TestTexts(unittest.TestCase):
         for name in drawing.names():
             found = drawing.triple(name)
             self.assertEqual((type(found), len(found), {type(many) for many in found}), (tuple, 3, {Many}))
+        self.assertIs(type(drawn("point A 1 0 0", "free B", "on C A B").triple("C")), tuple)
         self.assertEqual([str(many) for many in drawing.triple("P")], ["-1", "-1", "0"])
         self.assertEqual([str(many) for many in drawing.triple("a")], ["0", "0", "1"])
 
@@ -307,7 +308,7 @@ class TestSentences(unittest.TestCase):
             self.check(sentence, 0)
 
     def test_too_few_words(self):
-        for sentence in ("same", "same A", "line", "line A", "line A B", "through", "through a", "through a b", "on", "on A"):
+        for sentence in ("same", "same A", "same a", "line", "line A", "line A B", "through", "through a", "through a b", "on", "on A"):
             self.check(sentence, len(sentence.split(" ")))
 
     def test_too_many_words(self):
@@ -463,6 +464,13 @@ class TestBreaking(unittest.TestCase):
         self.assertIsNone(drawing.breaking("same X Y", p=0, most=2))
         self.assertEqual(drawing.breaking("same X Y", p=3, most=20), {"X1": 2})
         self.assertIsNone(drawing.breaking("same X Y", p=5, most=1))
+        # The lines to the points with 0, 1 and 2 forbid these numbers, so that 3 is the first one.
+        drawing = drawn("point Z 0 0 1", "point E 1 0 1", "point T 2 0 1", "point F 1 0 0", "on X Z F", "join a X Z",
+                        "join b X E", "join c X T")
+        self.assertIsNone(drawing.breaking("same X Z", p=0))
+        self.assertIsNone(drawing.breaking("same X Z", p=0, most=3))
+        self.assertEqual(drawing.breaking("same X Z", p=0, most=4), {"X1": 3})
+        self.assertIsNone(drawing.breaking("same X Z", p=3, most=4))
 
     def test_none_although_larger_fields_break_it(self):
         drawing = drawn(*SQUARE)
